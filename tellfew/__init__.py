@@ -1,0 +1,1 @@
+"""Tellfew: how little two must tell each other."""

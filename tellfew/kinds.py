@@ -1,0 +1,28 @@
+"""What kind of thing a thing is, asked of anything."""
+
+# An answer is a whole number from 0 on, below this.
+ANSWERS = 100
+
+
+def is_whole(thing):
+    """Whether thing is a whole number."""
+    return isinstance(thing, int) and not isinstance(thing, bool)
+
+
+def is_number(thing, many):
+    """Whether thing is a whole number from 0 on, below many."""
+    return is_whole(thing) and 0 <= thing < many
+
+
+def are_numbers(thing, count, many):
+    """Whether thing is a tuple of count whole numbers from 0 on, below many."""
+    if not isinstance(thing, tuple) or len(thing) != count:
+        return False
+    return all(is_number(part, many) for part in thing)
+
+
+def are_rising(thing, many):
+    """Whether thing is a tuple of rising whole numbers from 0 on, below many."""
+    if not isinstance(thing, tuple) or not are_numbers(thing, len(thing), many):
+        return False
+    return all(thing[k] < thing[k + 1] for k in range(len(thing) - 1))

@@ -1,0 +1,103 @@
+"""[2] Nothing that is handed in is changed; the same asked again is told the same."""
+
+import os
+import subprocess
+import sys
+import unittest
+from random import Random
+
+from tellfew.errors import TellError
+from tellfew.likes import numbered, unlike_cols, unlike_rows
+from tellfew.tables import is_table, part_of, turned
+from tellfew.tabletexts import read_table, show_table
+from tellfew.telling import ends_of, first_wrong, tells, told
+from tellfew.trees import depth_of, is_tree
+from tests.things import a_great_tree, a_tree, kinds_of, odd_things, some_tables
+
+ROOT = os.path.dirname(os.path.dirname(os.path.abspath(__file__)))
+
+
+def of_tables():
+    asked = []
+    for table in some_tables(31, 12) + [((5, 5), (5, 6), (5, 5)), ((1,) * 12,) * 12]:
+        asked += [(is_table, (table,)), (turned, (table,)), (part_of, (table, (0,), (0,)))]
+        asked += [(numbered, (table,)), (unlike_rows, (table,)), (unlike_cols, (table,)), (show_table, (table,))]
+        asked += [(read_table, (show_table(table),)), (read_table, (show_table(table) + " ",))]
+    return asked
+
+
+def of_trees():
+    chance = Random(32)
+    asked = []
+    for tree in [a_tree(chance, 3, 2, depth, answers=3) for depth in range(8)] + [a_great_tree(3, 2)]:
+        asked += [(is_tree, (3, 2, tree)), (is_tree, (2, 3, tree)), (depth_of, (tree,)), (ends_of, (tree, 3, 2))]
+        asked += [(told, (tree, i, j)) for i in range(3) for j in range(2)]
+        for table in (((0, 1), (1, 2), (2, 2)), ((0, 0),) * 3):
+            asked += [(tells, (table, tree)), (first_wrong, (table, tree))]
+    return asked
+
+
+def of_anything():
+    asked = []
+    for thing in odd_things():
+        asked += [(is_table, (thing,)), (read_table, (thing,)), (is_tree, (2, 3, thing))]
+    return asked
+
+
+def questions():
+    return of_tables() + of_trees() + of_anything()
+
+
+def answer_to(question):
+    function, handed = question
+    try:
+        return function(*handed)
+    except TellError as refusal:
+        return "refused", type(refusal).__name__, str(refusal)
+
+
+def all_answers():
+    return [kinds_of(answer_to(question)) for question in questions()]
+
+
+def parts_are_listed(thing):
+    """Whether thing is a text, whole number, truth, None or a tuple of these."""
+    if type(thing) is tuple:
+        return all(parts_are_listed(part) for part in thing)
+    return thing is None or type(thing) in (str, int, bool)
+
+
+class AskedAgain(unittest.TestCase):
+
+    def test_nothing_handed_in_is_changed(self):
+        for question in questions():
+            before = kinds_of(question[1])
+            answer_to(question)
+            self.assertEqual(kinds_of(question[1]), before, question[0].__name__)
+
+    def test_the_same_is_told_at_once_and_behind_other_questions(self):
+        asked = questions()
+        first = []
+        for question in asked:
+            first.append(kinds_of(answer_to(question)))
+            self.assertEqual(kinds_of(answer_to(question)), first[-1], question[0].__name__)
+        for question, before in reversed(list(zip(asked, first))):
+            self.assertEqual(kinds_of(answer_to(question)), before, question[0].__name__)
+
+    def test_what_is_told_is_made_of_listed_things(self):
+        for question in questions():
+            self.assertTrue(parts_are_listed(answer_to(question)), question[0].__name__)
+
+    def test_the_same_is_told_by_every_run(self):
+        line = "from tests.test_asked_again import all_answers; print(all_answers())"
+        told_by_runs = []
+        for seed in ("1", "2"):
+            surroundings = dict(os.environ, PYTHONHASHSEED=seed, PYTHONPATH=ROOT)
+            run = subprocess.run([sys.executable, "-c", line], cwd=ROOT, env=surroundings, check=True,
+                                 stdout=subprocess.PIPE)
+            told_by_runs.append(run.stdout)
+        self.assertEqual(told_by_runs[0], told_by_runs[1])
+
+
+if __name__ == "__main__":
+    unittest.main()

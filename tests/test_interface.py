@@ -1,0 +1,34 @@
+"""The interface: its names, in the files under which they are listed."""
+
+import importlib
+import inspect
+import unittest
+
+LISTED = {
+    "tables": {"is_table": 1, "turned": 1, "part_of": 3},
+    "likes": {"numbered": 1, "unlike_rows": 1, "unlike_cols": 1},
+    "tabletexts": {"show_table": 1, "read_table": 1},
+    "trees": {"is_tree": 3, "depth_of": 1},
+    "telling": {"told": 3, "tells": 2, "first_wrong": 2, "ends_of": 3},
+}
+
+
+class Interface(unittest.TestCase):
+
+    def test_functions_are_defined_where_they_are_listed(self):
+        for name, functions in LISTED.items():
+            module = importlib.import_module("tellfew." + name)
+            for function, count in functions.items():
+                with self.subTest(module=name, function=function):
+                    found = getattr(module, function)
+                    self.assertTrue(inspect.isfunction(found))
+                    self.assertEqual(found.__module__, "tellfew." + name)
+                    parameters = inspect.signature(found).parameters.values()
+                    asked = [part for part in parameters if part.default is part.empty]
+                    self.assertEqual(len(asked), count)
+                    self.assertTrue(all(part.kind in (part.POSITIONAL_ONLY, part.POSITIONAL_OR_KEYWORD)
+                                        for part in asked))
+
+
+if __name__ == "__main__":
+    unittest.main()
