@@ -21,8 +21,7 @@ def first_wrong(table, tree):
     """The first pair of which the tree does not tell the table's answer, else None."""
     for i, row in enumerate(table):
         for j, answer in enumerate(row):
-            _, heard = told(tree, i, j)
-            if heard != answer:
+            if told(tree, i, j)[1] != answer:
                 return i, j
     return None
 

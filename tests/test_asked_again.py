@@ -6,12 +6,19 @@ import sys
 import unittest
 from random import Random
 
+from tellfew.determinants import determinant, stands
 from tellfew.errors import TellError
+from tellfew.fewest import fewest
+from tellfew.leastwrong import least_wrong
 from tellfew.likes import numbered, unlike_cols, unlike_rows
+from tellfew.parting import parted, parted_holds
 from tellfew.tables import is_table, part_of, turned
 from tellfew.tabletexts import read_table, show_table
 from tellfew.telling import ends_of, first_wrong, tells, told
 from tellfew.trees import depth_of, is_tree
+from tellfew.treetexts import read_tree, show_tree
+from tellfew.treewords import words_of
+from tellfew.words import is_telling, one_word, told_by, wrong_pairs
 from tests.things import a_great_tree, a_tree, kinds_of, odd_things, some_tables
 
 ROOT = os.path.dirname(os.path.dirname(os.path.abspath(__file__)))
@@ -23,6 +30,10 @@ def of_tables():
         asked += [(is_table, (table,)), (turned, (table,)), (part_of, (table, (0,), (0,)))]
         asked += [(numbered, (table,)), (unlike_rows, (table,)), (unlike_cols, (table,)), (show_table, (table,))]
         asked += [(read_table, (show_table(table),)), (read_table, (show_table(table) + " ",))]
+        asked += [(fewest, (table,)), (one_word, (table,)), (parted, (table,)), (parted_holds, (table, parted(table)))]
+        asked += [(parted_holds, (table, ((0, 1), (0,)))), (is_telling, (2, 2, one_word(table)))]
+        asked += [(told_by, (one_word(table), 0, 0)), (wrong_pairs, (table[::-1], one_word(table)))]
+        asked += [(least_wrong, (table, table, many)) for many in (1, 2, 12)]
     return asked
 
 
@@ -31,9 +42,20 @@ def of_trees():
     asked = []
     for tree in [a_tree(chance, 3, 2, depth, answers=3) for depth in range(8)] + [a_great_tree(3, 2)]:
         asked += [(is_tree, (3, 2, tree)), (is_tree, (2, 3, tree)), (depth_of, (tree,)), (ends_of, (tree, 3, 2))]
+        asked += [(show_tree, (tree,)), (words_of, (tree, 3)), (read_tree, (3, 2, show_tree(tree)))]
+        asked += [(read_tree, (2, 3, show_tree(tree))), (read_tree, (3, 2, show_tree(tree) + "0"))]
         asked += [(told, (tree, i, j)) for i in range(3) for j in range(2)]
         for table in (((0, 1), (1, 2), (2, 2)), ((0, 0),) * 3):
             asked += [(tells, (table, tree)), (first_wrong, (table, tree))]
+    return asked
+
+
+def of_parts():
+    chance = Random(33)
+    asked = []
+    for many in range(7):
+        part = tuple(tuple(chance.randint(-4, 4) for _ in range(many)) for _ in range(many))
+        asked += [(determinant, (part,))] + [(stands, (part, p)) for p in (0, 2, 3, 97)]
     return asked
 
 
@@ -41,11 +63,12 @@ def of_anything():
     asked = []
     for thing in odd_things():
         asked += [(is_table, (thing,)), (read_table, (thing,)), (is_tree, (2, 3, thing))]
+        asked += [(read_tree, (2, 3, thing)), (is_telling, (2, 3, thing)), (parted_holds, (((1, 2), (2, 1)), thing))]
     return asked
 
 
 def questions():
-    return of_tables() + of_trees() + of_anything()
+    return of_tables() + of_trees() + of_parts() + of_anything()
 
 
 def answer_to(question):

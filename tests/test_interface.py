@@ -10,6 +10,13 @@ LISTED = {
     "tabletexts": {"show_table": 1, "read_table": 1},
     "trees": {"is_tree": 3, "depth_of": 1},
     "telling": {"told": 3, "tells": 2, "first_wrong": 2, "ends_of": 3},
+    "treetexts": {"show_tree": 1, "read_tree": 3},
+    "fewest": {"fewest": 1},
+    "words": {"is_telling": 3, "told_by": 3, "wrong_pairs": 2, "one_word": 1},
+    "parting": {"parted": 1, "parted_holds": 2},
+    "treewords": {"words_of": 2},
+    "leastwrong": {"least_wrong": 3},
+    "determinants": {"determinant": 1, "stands": 2},
 }
 
 
