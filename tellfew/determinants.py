@@ -19,9 +19,17 @@ def determinant(part):
 
 def stands(part, p):
     """Whether the part stands by p, which is 0 or a prime."""
-    if p == 0:
-        return determinant(part) != 0
-    return determinant(part) % p != 0
+    return not is_nought(determinant(part), p)
+
+
+def is_nought(number, p):
+    """Whether the number is nought by p: 0, or by a prime a multiple of it."""
+    return rest(number, p) == 0
+
+
+def rest(number, p):
+    """The number's rest by a prime; by 0 the number itself."""
+    return number if p == 0 else number % p
 
 
 def _row_to_take(rows, k):

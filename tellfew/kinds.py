@@ -26,3 +26,10 @@ def are_rising(thing, many):
     if not isinstance(thing, tuple) or not are_numbers(thing, len(thing), many):
         return False
     return all(thing[k] < thing[k + 1] for k in range(len(thing) - 1))
+
+
+def are_counts(thing, count):
+    """Whether thing is a tuple of count whole numbers from 0 on, not all 0."""
+    if not isinstance(thing, tuple) or len(thing) != count:
+        return False
+    return all(is_whole(part) and part >= 0 for part in thing) and any(part > 0 for part in thing)

@@ -7,11 +7,18 @@ import unittest
 from random import Random
 
 from tellfew.determinants import determinant, stands
+from tellfew.drawn import worst, wrong_in
 from tellfew.errors import TellError
+from tellfew.factors import factors
 from tellfew.fewest import fewest
+from tellfew.fractions import less, lowest
+from tellfew.gamechecks import fair_holds
+from tellfew.games import fair
 from tellfew.leastwrong import least_wrong
 from tellfew.likes import numbered, unlike_cols, unlike_rows
 from tellfew.parting import parted, parted_holds
+from tellfew.rankchecks import ranked_holds
+from tellfew.ranks import ranked
 from tellfew.tables import is_table, part_of, turned
 from tellfew.tabletexts import read_table, show_table
 from tellfew.telling import ends_of, first_wrong, tells, told
@@ -19,7 +26,7 @@ from tellfew.trees import depth_of, is_tree
 from tellfew.treetexts import read_tree, show_tree
 from tellfew.treewords import words_of
 from tellfew.words import is_telling, one_word, told_by, wrong_pairs
-from tests.things import a_great_tree, a_tree, kinds_of, odd_things, some_tables
+from tests.things import a_great_tree, a_tree, kinds_of, odd_things, some_draws, some_tables
 
 ROOT = os.path.dirname(os.path.dirname(os.path.abspath(__file__)))
 
@@ -59,16 +66,44 @@ def of_parts():
     return asked
 
 
+def of_ranks():
+    asked = []
+    for table in some_tables(34, 8, answers=9) + [((0, 0),), ((99,) * 12,) * 12]:
+        for p in (0, 2, 97):
+            asked += [(ranked, (table, p)), (ranked_holds, (table, p, ranked(table, p)))]
+            asked += [(ranked_holds, (table, p, ((), (), ((1, ()),) * len(table))))]
+        asked += [(factors, (table, 2)), (factors, (table, 97))]
+    return asked
+
+
+def of_games():
+    asked = [(lowest, (-6, 4)), (lowest, (0, -5)), (less, ((1, 2), (2, 3))), (less, ((1, 2), (1, 2)))]
+    for table in some_tables(35, 12, answers=9) + [((10 ** 6, 0),), ((1,) * 8,) * 8]:
+        asked += [(fair, (table,)), (fair_holds, (table, fair(table))), (fair_holds, (table, ((1, 1), (1,), (1,))))]
+    return asked
+
+
+def of_draws():
+    chance = Random(36)
+    asked = []
+    for table in some_tables(37, 8):
+        for draws in [some_draws(chance, table, many, 3, 3) for many in (1, 4)]:
+            asked += [(wrong_in, (table, draws)), (worst, (table, draws))]
+    return asked
+
+
 def of_anything():
     asked = []
     for thing in odd_things():
         asked += [(is_table, (thing,)), (read_table, (thing,)), (is_tree, (2, 3, thing))]
         asked += [(read_tree, (2, 3, thing)), (is_telling, (2, 3, thing)), (parted_holds, (((1, 2), (2, 1)), thing))]
+        asked += [(ranked_holds, (((1, 2), (2, 1)), p, thing)) for p in (0, 2)]
+        asked += [(fair_holds, (((1, 2), (2, 1)), thing))]
     return asked
 
 
 def questions():
-    return of_tables() + of_trees() + of_parts() + of_anything()
+    return of_tables() + of_trees() + of_parts() + of_ranks() + of_games() + of_draws() + of_anything()
 
 
 def answer_to(question):

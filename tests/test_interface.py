@@ -17,6 +17,13 @@ LISTED = {
     "treewords": {"words_of": 2},
     "leastwrong": {"least_wrong": 3},
     "determinants": {"determinant": 1, "stands": 2},
+    "ranks": {"ranked": 2},
+    "rankchecks": {"ranked_holds": 3},
+    "factors": {"factors": 2},
+    "fractions": {"lowest": 2, "less": 2},
+    "games": {"fair": 1},
+    "gamechecks": {"fair_holds": 2},
+    "drawn": {"wrong_in": 2, "worst": 2},
 }
 
 

@@ -134,3 +134,32 @@ def with_more_knots(tree, spare, m, n):
 def knots_of(tree):
     """How many knots a tree has besides ends."""
     return 0 if tree[0] == "end" else 1 + knots_of(tree[2]) + knots_of(tree[3])
+
+
+def of_other_kinds(thing):
+    """All of thing with one part of another kind: lists and texts for tuples, truths and None for numbers."""
+    if not isinstance(thing, tuple):
+        others = [None, True, False, [thing], (thing,), {}, ""]
+        return others + ([str(thing)] if isinstance(thing, int) else [0, thing + " "])
+    others = [list(thing), dict(enumerate(thing)), str(thing), None, True, False, 0, 7]
+    for at, part in enumerate(thing):
+        others += [thing[:at] + (other,) + thing[at + 1:] for other in of_other_kinds(part)]
+    return others
+
+
+def with_part(thing, way, part):
+    """thing with another part at the end of the way, a tuple of places."""
+    if way == ():
+        return part
+    at = way[0]
+    return thing[:at] + (with_part(thing[at], way[1:], part),) + thing[at + 1:]
+
+
+def some_draws(chance, table, many, words, answers, most=9):
+    """So many draws in common for the table, of tellings of so many words."""
+    m, n = len(table), len(table[0])
+    draws = []
+    for _ in range(many):
+        telling = (tuple(chance.randrange(words) for _ in range(m)), a_table(chance, words, n, answers))
+        draws.append((chance.randint(1, most), telling))
+    return tuple(draws)
