@@ -5,10 +5,11 @@ from tellfew.fractions import lessened, lowest
 
 def fair(game):
     """(value, asked, drawn): a paper of the game's value."""
-    # Sought is the most that all columns can be drawn together while no row loses more than 1. For that each number
-    # of the game is 1 greater here: above 0, as the value then is, which is 1 by that most.
+    # Sought is the most that all columns can be drawn together while no row loses more than 1: the value is 1 divided
+    # by it. So that the value is above 0, each number of the game is 1 greater here.
+    m, n = len(game), len(game[0])
     rows = _first_rows(game)
-    held = [len(game[0]) + i for i in range(len(game))]
+    held = [n + i for i in range(m)]
     divisor = 1
     col = _col_to_take(rows[-1])
     while col is not None:
@@ -16,15 +17,15 @@ def fair(game):
         _clear_others(rows, at, col, divisor)
         held[at], divisor = col, rows[at][col]
         col = _col_to_take(rows[-1])
-    drawn = [0] * (len(game[0]) + len(game))
+    drawn = [0] * (n + m)
     for i, j in enumerate(held):
         drawn[j] = rows[i][-1]
     value = lowest(divisor - rows[-1][-1], rows[-1][-1])
-    return value, lessened(rows[-1][len(game[0]):-1]), lessened(drawn[:len(game[0])])
+    return value, lessened(rows[-1][n:-1]), lessened(drawn[:n])
 
 
 def _first_rows(game):
-    """A row for each row of the game, the last one for what is sought; in each the columns, what is left, the bound."""
+    """A row for each row of the game, and one for what is sought: the columns, what is left to each row, the bound."""
     m, n = len(game), len(game[0])
     rows = []
     for i, row in enumerate(game):

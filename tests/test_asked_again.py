@@ -6,27 +6,34 @@ import sys
 import unittest
 from random import Random
 
+from tellfew.cubes import is_cube
 from tellfew.determinants import determinant, stands
 from tellfew.drawn import worst, wrong_in
 from tellfew.errors import TellError
 from tellfew.factors import factors
+from tellfew.fairchecks import fair_words_holds
+from tellfew.fairwords import fair_words
+from tellfew.fewer import fewer
 from tellfew.fewest import fewest
 from tellfew.fractions import less, lowest
 from tellfew.gamechecks import fair_holds
 from tellfew.games import fair
 from tellfew.leastwrong import least_wrong
 from tellfew.likes import numbered, unlike_cols, unlike_rows
+from tellfew.own import own_of, own_wrong
 from tellfew.parting import parted, parted_holds
 from tellfew.rankchecks import ranked_holds
 from tellfew.ranks import ranked
+from tellfew.shutting import is_shut, shut_up
 from tellfew.tables import is_table, part_of, turned
 from tellfew.tabletexts import read_table, show_table
 from tellfew.telling import ends_of, first_wrong, tells, told
+from tellfew.threes import ends_of_three, is_three, tells_cube, told_three
 from tellfew.trees import depth_of, is_tree
 from tellfew.treetexts import read_tree, show_tree
 from tellfew.treewords import words_of
 from tellfew.words import is_telling, one_word, told_by, wrong_pairs
-from tests.things import a_great_tree, a_tree, kinds_of, odd_things, some_draws, some_tables
+from tests.things import a_great_tree, a_three, a_tree, kinds_of, odd_things, some_draws, some_tables
 
 ROOT = os.path.dirname(os.path.dirname(os.path.abspath(__file__)))
 
@@ -88,7 +95,27 @@ def of_draws():
     asked = []
     for table in some_tables(37, 8):
         for draws in [some_draws(chance, table, many, 3, 3) for many in (1, 4)]:
-            asked += [(wrong_in, (table, draws)), (worst, (table, draws))]
+            asked += [(wrong_in, (table, draws)), (worst, (table, draws)), (own_of, (draws,))]
+            asked += [(own_wrong, (table, own_of(draws))), (fewer, (table, draws, 1, 2)), (fewer, (table, draws, 0, 1))]
+    for table in some_tables(38, 8, most=4) + [((0, 1, 2),) * 4]:
+        asked += [(fair_words, (table, many)) for many in (1, 2)]
+        weights = tuple((1,) * len(row) for row in table)
+        asked += [(fair_words_holds, (table, 12, ((0, 1), ((1, one_word(table)),), weights)))]
+        asked += [(fair_words_holds, (table, 1, ((1, 2), ((1, one_word(table)),), weights)))]
+    return asked
+
+
+def of_three():
+    chance = Random(39)
+    asked = []
+    for sizes in ((1, 1, 1), (2, 2, 2), (1, 2, 3), (3, 3, 3)):
+        tree = a_three(chance, sizes, 4, answers=2)
+        a, b, c = sizes
+        cube = (((1,) * c,) * b,) * a
+        asked += [(is_cube, (cube,)), (is_three, (sizes, tree)), (is_three, ((2, 1, 3), tree))]
+        asked += [(tells_cube, (cube, tree)), (told_three, (tree, a - 1, b - 1, 0)), (ends_of_three, (tree, sizes))]
+    for triples in ((), ((0, 1, 2),), ((0, 0, 1), (0, 1, 0), (1, 0, 0))):
+        asked += [(is_shut, (triples,)), (shut_up, (triples,))]
     return asked
 
 
@@ -98,12 +125,14 @@ def of_anything():
         asked += [(is_table, (thing,)), (read_table, (thing,)), (is_tree, (2, 3, thing))]
         asked += [(read_tree, (2, 3, thing)), (is_telling, (2, 3, thing)), (parted_holds, (((1, 2), (2, 1)), thing))]
         asked += [(ranked_holds, (((1, 2), (2, 1)), p, thing)) for p in (0, 2)]
-        asked += [(fair_holds, (((1, 2), (2, 1)), thing))]
+        asked += [(fair_holds, (((1, 2), (2, 1)), thing)), (fair_words_holds, (((1, 2), (2, 1)), 1, thing))]
+        asked += [(is_cube, (thing,)), (is_three, ((2, 2, 2), thing))]
     return asked
 
 
 def questions():
-    return of_tables() + of_trees() + of_parts() + of_ranks() + of_games() + of_draws() + of_anything()
+    of_two = of_tables() + of_trees() + of_parts() + of_ranks() + of_games() + of_draws()
+    return of_two + of_three() + of_anything()
 
 
 def answer_to(question):

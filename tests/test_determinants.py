@@ -6,9 +6,8 @@ from fractions import Fraction
 from random import Random
 
 from tellfew.determinants import determinant, stands
-from tests.things import check_false, check_same, check_true
+from tests.things import PRIMES, check_false, check_same, check_true
 
-PRIMES = (2, 3, 5, 7, 11, 13, 17, 19, 23, 29, 31, 37, 41, 43, 47, 53, 59, 61, 67, 71, 73, 79, 83, 89, 97)
 GREAT = 10 ** 6
 
 

@@ -7,9 +7,7 @@ from random import Random
 from tellfew.factors import factors
 from tellfew.likes import unlike_rows
 from tellfew.ranks import ranked
-from tests.things import a_table, check_same
-
-PRIMES = (2, 3, 5, 7, 11, 13, 17, 19, 23, 29, 31, 37, 41, 43, 47, 53, 59, 61, 67, 71, 73, 79, 83, 89, 97)
+from tests.things import PRIMES, a_table, check_same
 
 
 class Factors(unittest.TestCase):

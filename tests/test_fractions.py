@@ -4,8 +4,8 @@ import unittest
 from fractions import Fraction
 from random import Random
 
-from tellfew.fractions import less, lowest
-from tests.things import check_false, check_same, check_true
+from tellfew.fractions import is_fraction, less, lowest
+from tests.things import check_false, check_none_of, check_same, check_true, odd_things, of_other_kinds
 
 GREAT = 10 ** 40 - 1
 
@@ -109,6 +109,25 @@ class Less(unittest.TestCase):
         for one in small:
             for other in small:
                 check_same(self, less(in_terms(one), in_terms(other)), one < other)
+
+
+class IsFraction(unittest.TestCase):
+
+    def test_just_what_is_in_lowest_terms(self):
+        for top in range(-12, 13):
+            for bottom in range(-12, 13):
+                expected = bottom > 0 and in_terms(Fraction(top, bottom)) == (top, bottom)
+                check_same(self, is_fraction((top, bottom)), expected)
+
+    def test_of_forty_figures(self):
+        check_true(self, is_fraction((GREAT - 1, GREAT)))
+        check_true(self, is_fraction((-GREAT, 1)))
+        check_none_of(self, is_fraction, [(GREAT, GREAT), (GREAT, 3), (0, GREAT), (1, -GREAT)])
+
+    def test_of_anything(self):
+        check_none_of(self, is_fraction, of_other_kinds((1, 2)) + of_other_kinds((0, 1)) + of_other_kinds((1, 1)))
+        check_none_of(self, is_fraction, [(), (1,), (1, 2, 3), (1, 2, 1), ((1, 2),), "1/2", [1, 2], {1: 2}])
+        check_none_of(self, is_fraction, [thing for thing in odd_things() if thing != (1, 2)])
 
 
 if __name__ == "__main__":

@@ -24,6 +24,13 @@ LISTED = {
     "games": {"fair": 1},
     "gamechecks": {"fair_holds": 2},
     "drawn": {"wrong_in": 2, "worst": 2},
+    "fairwords": {"fair_words": 2},
+    "fairchecks": {"fair_words_holds": 3},
+    "own": {"own_of": 1, "own_wrong": 2},
+    "fewer": {"fewer": 4},
+    "cubes": {"is_cube": 1},
+    "threes": {"is_three": 2, "told_three": 4, "tells_cube": 2, "ends_of_three": 2},
+    "shutting": {"is_shut": 1, "shut_up": 1},
 }
 
 

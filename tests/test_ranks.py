@@ -9,10 +9,9 @@ from tellfew.rankchecks import ranked_holds
 from tellfew.ranks import ranked
 from tellfew.tables import turned
 from tellfew.telling import ends_of, told
-from tests.things import (a_table, a_tree, check_false, check_none_of, check_same, check_true, nested, nested_dict,
-                          odd_things, of_other_kinds, some_tables, with_part)
+from tests.things import (PRIMES, a_table, a_tree, check_false, check_none_of, check_same, check_true, nested,
+                          nested_dict, odd_things, of_other_kinds, some_tables, with_part)
 
-PRIMES = (2, 3, 5, 7, 11, 13, 17, 19, 23, 29, 31, 37, 41, 43, 47, 53, 59, 61, 67, 71, 73, 79, 83, 89, 97)
 ALL_P = (0,) + PRIMES
 SOME_P = (0, 2, 3, 7, 97)
 
@@ -264,8 +263,9 @@ class RankedHolds(PaperClauses):
         check_true(self, ranked_holds(TABLE, 0, ((0, 1), (1, 2), sums)))
 
     def test_other_rows(self):
-        check_true(self, ranked_holds(TABLE, 0, ((0, 2), (0, 1), ((1, (1, 0)), (1, (-1, 1)), (1, (0, 1)), (1, (0, 0))))))
-        check_true(self, ranked_holds(TABLE, 0, ((1, 2), (0, 1), ((1, (-1, 1)), (1, (1, 0)), (1, (0, 1)), (1, (0, 0))))))
+        sums = ((1, (1, 0)), (1, (-1, 1)), (1, (0, 1)), (1, (0, 0)))
+        check_true(self, ranked_holds(TABLE, 0, ((0, 2), (0, 1), sums)))
+        check_true(self, ranked_holds(TABLE, 0, ((1, 2), (0, 1), (sums[1], sums[0]) + sums[2:])))
         self.check_none_holds([((0, 2), (0, 1), PAPER[2]), ((1, 2), (0, 1), PAPER[2])])
 
     def test_by_a_prime_multiples_more_and_numbers_below_nought(self):
@@ -332,7 +332,8 @@ class RankedHolds(PaperClauses):
 
     def test_rows_and_columns_that_do_not_rise(self):
         turned_sums = tuple((d, some[::-1]) for d, some in PAPER[2])
-        self.check_none_holds([((1, 0), (0, 1), turned_sums), ((0, 1), (1, 0), PAPER[2]), ((1, 0), (1, 0), turned_sums)])
+        self.check_none_holds([((1, 0), (0, 1), turned_sums), ((0, 1), (1, 0), PAPER[2])])
+        self.check_none_holds([((1, 0), (1, 0), turned_sums), ((1, 0), (1, 0), PAPER[2])])
         self.check_none_holds([((0, 0), (0, 1), PAPER[2]), ((0, 1), (1, 1), PAPER[2]), ((0, 0), (0, 0), PAPER[2])])
         self.check_none_holds([((0, 0), (0, 0), ((1, (1, 0)),))], ((1, 2),))
 
@@ -350,7 +351,8 @@ class RankedHolds(PaperClauses):
 
     def test_too_few_or_too_many_sums(self):
         sums = PAPER[2]
-        self.check_none_holds([PAPER[:2] + (other,) for other in ((), sums[:1], sums[:3], sums + sums[3:], sums + sums)])
+        for other in ((), sums[:1], sums[:3], sums + sums[3:], sums + sums):
+            self.check_none_holds([PAPER[:2] + (other,)])
         for at in range(4):
             d, some = sums[at]
             for other in ((d,), (some,), (d, some, some), (d, d, some), (some, d), (d, some[:1]), (d, some + (0,)),
@@ -358,7 +360,7 @@ class RankedHolds(PaperClauses):
                 self.check_none_holds([with_part(PAPER, (2, at), other)])
 
     def test_parts_missing_or_too_many(self):
-        self.check_none_holds([(), PAPER[:1], PAPER[:2], PAPER[1:], PAPER + ((),), PAPER[::-1], (PAPER,), PAPER + PAPER])
+        self.check_none_holds([(), PAPER[:1], PAPER[:2], PAPER[1:], PAPER + ((),), PAPER[::-1], (PAPER,), PAPER * 2])
 
     def test_of_other_kinds(self):
         self.check_none_holds(of_other_kinds(PAPER))

@@ -2,6 +2,8 @@
 
 from random import Random
 
+PRIMES = (2, 3, 5, 7, 11, 13, 17, 19, 23, 29, 31, 37, 41, 43, 47, 53, 59, 61, 67, 71, 73, 79, 83, 89, 97)
+
 
 def nested(thing, many, kind=tuple):
     """thing, put many times into a tuple (list) of its own."""
@@ -163,3 +165,28 @@ def some_draws(chance, table, many, words, answers, most=9):
         telling = (tuple(chance.randrange(words) for _ in range(m)), a_table(chance, words, n, answers))
         draws.append((chance.randint(1, most), telling))
     return tuple(draws)
+
+
+def a_three(chance, sizes, depth, knots=200, answers=100):
+    """A tree of three of at most that depth, with at most that many knots besides ends."""
+    if depth == 0 or knots == 0 or chance.random() < 0.1:
+        return ("end", chance.randrange(answers))
+    who = chance.randrange(3)
+    first, second = [size for k, size in enumerate(sizes) if k != who]
+    signs = a_table(chance, first, second)
+    spare = (knots - 1) // 2
+    t = a_three(chance, sizes, depth - 1, spare, answers)
+    return (who, signs, t, a_three(chance, sizes, depth - 1, knots - 1 - spare, answers))
+
+
+def a_great_three(sizes):
+    """A tree of three of ten signs and two hundred knots."""
+    a, b, c = sizes
+    signs = [tuple(tuple((i + j + k) % 2 for j in range(n)) for i in range(m))
+             for k, (m, n) in enumerate(((b, c), (a, c), (a, b)))]
+
+    def full(depth, spare):
+        if depth == 0:
+            return ("end", 10) if spare == 0 else (1, signs[1], ("end", 11), ("end", 12))
+        return (depth % 3, signs[depth % 3], full(depth - 1, spare // 2), full(depth - 1, spare - spare // 2))
+    return (2, signs[2], ("end", 13), (0, signs[0], full(7, 71), ("end", 14)))
