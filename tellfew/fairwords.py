@@ -3,6 +3,7 @@
 from tellfew.errors import TooGreat
 from tellfew.games import fair
 from tellfew.leastwrong import least_wrong
+from tellfew.tables import in_rows
 from tellfew.words import told_by
 
 # So many rows, and so many columns, a table has at most, alike ones too.
@@ -20,7 +21,7 @@ def fair_words(table, many):
     tellings = [least_wrong(table, weights, many)[1]]
     while True:
         value, asked, drawn = fair(_game(table, tellings))
-        weights = _in_rows(asked, len(table[0]))
+        weights = in_rows(asked, len(table[0]))
         least, telling = least_wrong(table, weights, many)
         if least * value[1] >= value[0] * sum(asked):
             return value, tuple([(weight, one) for weight, one in zip(drawn, tellings) if weight > 0]), weights
@@ -31,8 +32,3 @@ def _game(table, tellings):
     """A row for each pair, a column for each telling: 1 where it is wrong, else 0."""
     return tuple([tuple([1 if told_by(telling, i, j) != answer else 0 for telling in tellings])
                   for i, row in enumerate(table) for j, answer in enumerate(row)])
-
-
-def _in_rows(numbers, n):
-    """The numbers in rows of n."""
-    return tuple([numbers[at:at + n] for at in range(0, len(numbers), n)])

@@ -16,6 +16,15 @@ def fewest(table):
     return _least(table, rows, cols, {})
 
 
+def parted_in_two(things):
+    """All (t, u) that things are parted in, neither empty, the first one in t."""
+    parted = []
+    for chosen in range(1, 1 << (len(things) - 1)):
+        u = tuple([thing for at, thing in enumerate(things[1:]) if chosen >> at & 1 == 1])
+        parted.append((tuple([thing for thing in things if thing not in u]), u))
+    return parted
+
+
 def _least(table, rows, cols, known):
     """(depth, tree), of least depth for these of the unlike rows and columns; known has what was told before."""
     if (rows, cols) not in known:
@@ -29,22 +38,13 @@ def _found(table, rows, cols, known):
         return 0, ("end", answers[0])
     # A sign that parts neither rows nor columns tells nothing: no least tree needs one.
     found = []
-    for t, u in _parted_in_two(rows):
+    for t, u in parted_in_two(rows):
         low, high = _least(table, t, cols, known), _least(table, u, cols, known)
         found.append((1 + max(low[0], high[0]), ("row", _signs(table, u), low[1], high[1])))
-    for t, u in _parted_in_two(cols):
+    for t, u in parted_in_two(cols):
         low, high = _least(table, rows, t, known), _least(table, rows, u, known)
         found.append((1 + max(low[0], high[0]), ("col", _signs(turned(table), u), low[1], high[1])))
     return min(found, key=lambda way: way[0])
-
-
-def _parted_in_two(numbers):
-    """All (t, u) that numbers are parted in, neither empty, the first number in t."""
-    parted = []
-    for chosen in range(1, 1 << (len(numbers) - 1)):
-        u = tuple([k for at, k in enumerate(numbers[1:]) if chosen >> at & 1 == 1])
-        parted.append((tuple([k for k in numbers if k not in u]), u))
-    return parted
 
 
 def _signs(lines, chosen):

@@ -21,6 +21,13 @@ def are_numbers(thing, count, many):
     return all(is_number(part, many) for part in thing)
 
 
+def are_rows(thing, m, n, many):
+    """Whether thing is a tuple of m rows of n whole numbers from 0 on, below many."""
+    if not isinstance(thing, tuple) or len(thing) != m:
+        return False
+    return all(are_numbers(row, n, many) for row in thing)
+
+
 def are_rising(thing, many):
     """Whether thing is a tuple of rising whole numbers from 0 on, below many."""
     if not isinstance(thing, tuple) or not are_numbers(thing, len(thing), many):

@@ -21,3 +21,8 @@ def turned(table):
 def part_of(table, rows, cols):
     """The part of the table that has just these rows and columns."""
     return tuple([tuple([table[i][j] for j in cols]) for i in rows])
+
+
+def in_rows(numbers, n):
+    """The numbers in rows of n."""
+    return tuple([numbers[at:at + n] for at in range(0, len(numbers), n)])

@@ -1,8 +1,7 @@
 """Trees of three, each of whom sees the two others' numbers."""
 
-from itertools import product
-
-from tellfew.kinds import ANSWERS, are_numbers, is_number
+from tellfew.cubes import all_triples
+from tellfew.kinds import ANSWERS, are_rows, is_number
 
 
 def is_three(sizes, thing):
@@ -14,10 +13,8 @@ def is_three(sizes, thing):
     if len(thing) != 4 or not is_number(thing[0], 3):
         return False
     who, signs, t, u = thing
-    first, second = _seen(who, sizes)
-    if not isinstance(signs, tuple) or len(signs) != first or not all([are_numbers(row, second, 2) for row in signs]):
-        return False
-    return is_three(sizes, t) and is_three(sizes, u)
+    first, second = seen(who, sizes)
+    return are_rows(signs, first, second, 2) and is_three(sizes, t) and is_three(sizes, u)
 
 
 def told_three(tree, x, y, z):
@@ -38,8 +35,12 @@ def tells_cube(cube, tree):
 
 def ends_of_three(tree, sizes):
     """The ends of the tree, in order, as (triples, answer): the triples that come there, rising."""
-    a, b, c = sizes
-    return _ends_among(tree, list(product(range(a), range(b), range(c))))
+    return _ends_among(tree, all_triples(sizes))
+
+
+def seen(who, numbers):
+    """The two of three numbers that who sees."""
+    return tuple([number for k, number in enumerate(numbers) if k != who])
 
 
 def _ends_among(tree, triples):
@@ -52,10 +53,5 @@ def _ends_among(tree, triples):
 def _sign(tree, triple):
     """The sign that is told of the triple at the first knot of the tree."""
     who, signs, _, _ = tree
-    first, second = _seen(who, triple)
+    first, second = seen(who, triple)
     return signs[first][second]
-
-
-def _seen(who, numbers):
-    """The two of three numbers that who sees."""
-    return [number for k, number in enumerate(numbers) if k != who]

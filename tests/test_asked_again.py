@@ -6,6 +6,7 @@ import sys
 import unittest
 from random import Random
 
+from tellfew.bothtold import both_draws, both_tellings, both_trees
 from tellfew.cubes import is_cube
 from tellfew.determinants import determinant, stands
 from tellfew.drawn import worst, wrong_in
@@ -15,25 +16,32 @@ from tellfew.fairchecks import fair_words_holds
 from tellfew.fairwords import fair_words
 from tellfew.fewer import fewer
 from tellfew.fewest import fewest
+from tellfew.fewestthree import fewest_three
 from tellfew.fractions import less, lowest
 from tellfew.gamechecks import fair_holds
 from tellfew.games import fair
 from tellfew.leastwrong import least_wrong
 from tellfew.likes import numbered, unlike_cols, unlike_rows
+from tellfew.machines import is_machine, machine_of, reads, words_at
 from tellfew.own import own_of, own_wrong
 from tellfew.parting import parted, parted_holds
+from tellfew.questions import cut, is_question
 from tellfew.rankchecks import ranked_holds
 from tellfew.ranks import ranked
 from tellfew.shutting import is_shut, shut_up
 from tellfew.tables import is_table, part_of, turned
 from tellfew.tabletexts import read_table, show_table
 from tellfew.telling import ends_of, first_wrong, tells, told
+from tellfew.threechecks import said_parted_holds
 from tellfew.threes import ends_of_three, is_three, tells_cube, told_three
+from tellfew.threewords import is_said, said, said_parted, said_wrong
+from tellfew.together import added, both, times
 from tellfew.trees import depth_of, is_tree
 from tellfew.treetexts import read_tree, show_tree
 from tellfew.treewords import words_of
 from tellfew.words import is_telling, one_word, told_by, wrong_pairs
-from tests.things import a_great_tree, a_three, a_tree, kinds_of, odd_things, some_draws, some_tables
+from tests.things import (a_great_tree, a_machine, a_table, a_three, a_tree, kinds_of, odd_things, some_cubes, some_draws,
+                          some_questions, some_tables)
 
 ROOT = os.path.dirname(os.path.dirname(os.path.abspath(__file__)))
 
@@ -119,6 +127,42 @@ def of_three():
     return asked
 
 
+def of_cubes():
+    asked = []
+    for cube in some_cubes(40, 15, 2) + [((tuple(range(3)),) * 3,) * 3, (((1, 2), (3, 4)), ((5, 6), (7, 8)))]:
+        sizes = len(cube), len(cube[0]), len(cube[0][0])
+        asked += [(fewest_three, (cube,)), (said, (cube,)), (is_said, (sizes, said(cube))), (said_parted, (cube,))]
+        asked += [(said_wrong, (cube[::-1], said(cube))), (said_parted_holds, (cube, said_parted(cube)))]
+        asked += [(is_said, ((2, 2, 2), said(cube))), (said_parted_holds, (cube, (0, (0, 1), (0,))))]
+    return asked
+
+
+def of_both():
+    chance = Random(41)
+    asked = []
+    for m, n, k, l in ((1, 12, 12, 1), (2, 3, 3, 2), (3, 4, 4, 3), (1, 1, 1, 1)):
+        one, other = a_table(chance, m, n, 10), a_table(chance, k, l, 10)
+        asked += [(both, (one, other)), (times, (one, other)), (added, (one, other, 1)), (added, (one, other, 19))]
+        asked += [(both_tellings, (one_word(one), one_word(other)))]
+        asked += [(both_draws, (some_draws(chance, one, 4, 3, 10), some_draws(chance, other, 3, 3, 10)))]
+        trees = a_tree(chance, m, n, 3, answers=10), a_tree(chance, k, l, 3, answers=10)
+        asked += [(both_trees, (trees[0], trees[1], (m, n, k, l)))]
+    return asked
+
+
+def of_questions():
+    chance = Random(42)
+    asked = []
+    for question in some_questions(43, 8) + [(6, "01" * 32), (1, "00")]:
+        n = question[0]
+        machine = a_machine(chance, n, 5)
+        asked += [(is_question, (question,)), (machine_of, (question,)), (is_machine, (n, machine))]
+        asked += [(reads, (machine, "01" * (n // 2) + "1" * (n % 2))), (is_machine, (3, machine_of(question)))]
+        for k in range(n + 1):
+            asked += [(cut, (question, k)), (words_at, (machine, k)), (words_at, (machine_of(question), k))]
+    return asked
+
+
 def of_anything():
     asked = []
     for thing in odd_things():
@@ -126,13 +170,14 @@ def of_anything():
         asked += [(read_tree, (2, 3, thing)), (is_telling, (2, 3, thing)), (parted_holds, (((1, 2), (2, 1)), thing))]
         asked += [(ranked_holds, (((1, 2), (2, 1)), p, thing)) for p in (0, 2)]
         asked += [(fair_holds, (((1, 2), (2, 1)), thing)), (fair_words_holds, (((1, 2), (2, 1)), 1, thing))]
-        asked += [(is_cube, (thing,)), (is_three, ((2, 2, 2), thing))]
+        asked += [(is_cube, (thing,)), (is_three, ((2, 2, 2), thing)), (is_said, ((1, 2, 1), thing))]
+        asked += [(said_parted_holds, ((((1,), (2,)),), thing)), (is_question, (thing,)), (is_machine, (2, thing))]
     return asked
 
 
 def questions():
     of_two = of_tables() + of_trees() + of_parts() + of_ranks() + of_games() + of_draws()
-    return of_two + of_three() + of_anything()
+    return of_two + of_three() + of_cubes() + of_both() + of_questions() + of_anything()
 
 
 def answer_to(question):

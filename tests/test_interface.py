@@ -31,6 +31,13 @@ LISTED = {
     "cubes": {"is_cube": 1},
     "threes": {"is_three": 2, "told_three": 4, "tells_cube": 2, "ends_of_three": 2},
     "shutting": {"is_shut": 1, "shut_up": 1},
+    "fewestthree": {"fewest_three": 1},
+    "threewords": {"is_said": 2, "said": 1, "said_wrong": 2, "said_parted": 1},
+    "threechecks": {"said_parted_holds": 2},
+    "together": {"both": 2, "times": 2, "added": 3},
+    "bothtold": {"both_tellings": 2, "both_draws": 2, "both_trees": 3},
+    "questions": {"is_question": 1, "cut": 2},
+    "machines": {"is_machine": 2, "reads": 2, "machine_of": 1, "words_at": 2},
 }
 
 

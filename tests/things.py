@@ -1,5 +1,6 @@
 """Things that tests hand in, and what several tests ask of what they are told."""
 
+from itertools import product
 from random import Random
 
 PRIMES = (2, 3, 5, 7, 11, 13, 17, 19, 23, 29, 31, 37, 41, 43, 47, 53, 59, 61, 67, 71, 73, 79, 83, 89, 97)
@@ -190,3 +191,50 @@ def a_great_three(sizes):
             return ("end", 10) if spare == 0 else (1, signs[1], ("end", 11), ("end", 12))
         return (depth % 3, signs[depth % 3], full(depth - 1, spare // 2), full(depth - 1, spare - spare // 2))
     return (2, signs[2], ("end", 13), (0, signs[0], full(7, 71), ("end", 14)))
+
+
+def a_cube(chance, sizes, answers=2):
+    """A cube of these sizes with answers below that number."""
+    a, b, c = sizes
+    return tuple(a_table(chance, b, c, answers) for _ in range(a))
+
+
+def some_cubes(seed, many, answers=3):
+    chance = Random(seed)
+    return [a_cube(chance, tuple(chance.randint(1, 3) for _ in range(3)), answers) for _ in range(many)]
+
+
+def words_of_signs(k):
+    """All words of k signs, rising."""
+    return ["".join(word) for word in product("01", repeat=k)]
+
+
+def a_question(chance, n, ones=0.5):
+    """A question of n signs, with about that share of answers 1."""
+    return n, "".join("1" if chance.random() < ones else "0" for _ in range(2 ** n))
+
+
+def some_questions(seed, many, most=6):
+    chance = Random(seed)
+    return [a_question(chance, chance.randint(1, most), chance.choice([0.1, 0.5, 0.9])) for _ in range(many)]
+
+
+def well_known_questions():
+    """Questions of which it is known by how few states they are read, of one sign and of six."""
+    asked = []
+    for n in (1, 2, 3, 6):
+        words = words_of_signs(n)
+        asked += [(n, "0" * 2 ** n), (n, "1" * 2 ** n), (n, "".join(word[0] for word in words))]
+        asked += [(n, "".join(word[-1] for word in words))]
+        asked += [(n, "".join(str(word.count("1") % 2) for word in words))]
+        asked += [(n, "".join(str(int(word == word[::-1])) for word in words))]
+        asked += [(n, "".join(str(int(word.count("1") * 2 > n)) for word in words))]
+    return asked
+
+
+def a_machine(chance, n, most):
+    """A machine for words of n signs with at most that many states in a layer; to some perhaps nothing leads."""
+    sizes = [1] + [chance.randint(1, most) for _ in range(n)]
+    layers = tuple(tuple((chance.randrange(after), chance.randrange(after)) for _ in range(size))
+                   for size, after in zip(sizes, sizes[1:]))
+    return layers, tuple(chance.randrange(2) for _ in range(sizes[n]))
