@@ -5,9 +5,14 @@ from tellfew.ranks import ranked
 
 def factors(table, p):
     """(left, right): each answer is, but for multiples of the prime p, the sum of left's row times right's column."""
-    rows, _, sums = ranked(table, p)
-    left = tuple([tuple([number * _inverse(d, p) % p for number in some]) for d, some in sums])
+    rows, left = rows_and_left(table, p)
     return left, tuple([tuple([answer % p for answer in table[i]]) for i in rows])
+
+
+def rows_and_left(table, p):
+    """(rows, left): numbers of as many rows as the rank by p, and how often each row of the table is made of them."""
+    rows, _, sums = ranked(table, p)
+    return rows, tuple([tuple([number * _inverse(d, p) % p for number in some]) for d, some in sums])
 
 
 def _inverse(d, p):

@@ -19,3 +19,14 @@ def read_answer(word):
     if len(word) > ANSWER_FIGURES or not is_figures(word):
         raise NoText("an answer is a number from 0 to 99 in figures")
     return int(word)
+
+
+def read_number(word):
+    """The whole number that word tells in figures, however many, else NoText comes."""
+    if not is_figures(word):
+        raise NoText("a number is written in figures")
+    # Sign by sign: Python refuses to make a number of very many figures at once.
+    number = 0
+    for sign in word:
+        number = 10 * number + int(sign)
+    return number

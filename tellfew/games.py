@@ -1,6 +1,15 @@
 """Games: the one fair value, with what is asked and what is drawn for it."""
 
 from tellfew.fractions import lessened, lowest
+from tellfew.kinds import is_whole
+
+
+def is_game(thing):
+    """Whether thing, which may be anything, is a game."""
+    if not isinstance(thing, tuple) or len(thing) == 0 or not all([isinstance(row, tuple) for row in thing]):
+        return False
+    n = len(thing[0])
+    return n > 0 and all([len(row) == n and all([is_whole(part) and part >= 0 for part in row]) for row in thing])
 
 
 def fair(game):

@@ -2,6 +2,9 @@
 
 # An answer is a whole number from 0 on, below this.
 ANSWERS = 100
+# The greatest prime by which ranks are told, and the greatest number of words that least wrong and fair words take.
+GREATEST_PRIME = 97
+MOST_WORDS = 12
 
 
 def is_whole(thing):
@@ -12,6 +15,23 @@ def is_whole(thing):
 def is_number(thing, many):
     """Whether thing is a whole number from 0 on, below many."""
     return is_whole(thing) and 0 <= thing < many
+
+
+def is_prime(thing):
+    """Whether thing is a prime to 97."""
+    if not is_whole(thing) or not 2 <= thing <= GREATEST_PRIME:
+        return False
+    return all(thing % divisor != 0 for divisor in range(2, thing))
+
+
+def is_nought_or_prime(thing):
+    """Whether thing is what ranks are told by: 0 or a prime to 97."""
+    return is_prime(thing) or (is_whole(thing) and thing == 0)
+
+
+def is_many(thing):
+    """Whether thing is how many words least wrong and fair words take at most: from 1 to 12."""
+    return is_whole(thing) and 1 <= thing <= MOST_WORDS
 
 
 def are_numbers(thing, count, many):

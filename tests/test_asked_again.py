@@ -8,6 +8,7 @@ from random import Random
 
 from tellfew.bothtold import both_draws, both_tellings, both_trees
 from tellfew.cubes import is_cube
+from tellfew.desk import Desk
 from tellfew.determinants import determinant, stands
 from tellfew.drawn import worst, wrong_in
 from tellfew.errors import TellError
@@ -17,6 +18,7 @@ from tellfew.fairwords import fair_words
 from tellfew.fewer import fewer
 from tellfew.fewest import fewest
 from tellfew.fewestthree import fewest_three
+from tellfew.findings import finding_holds
 from tellfew.fractions import less, lowest
 from tellfew.gamechecks import fair_holds
 from tellfew.games import fair
@@ -29,6 +31,11 @@ from tellfew.questions import cut, is_question
 from tellfew.rankchecks import ranked_holds
 from tellfew.ranks import ranked
 from tellfew.shutting import is_shut, shut_up
+from tellfew.stands import Stand
+from tellfew.statechecks import states_holds
+from tellfew.states import states
+from tellfew.summade import summing_of
+from tellfew.summing import is_summing, sizes_of, sum_cut, summed, worth
 from tellfew.tables import is_table, part_of, turned
 from tellfew.tabletexts import read_table, show_table
 from tellfew.telling import ends_of, first_wrong, tells, told
@@ -40,7 +47,8 @@ from tellfew.trees import depth_of, is_tree
 from tellfew.treetexts import read_tree, show_tree
 from tellfew.treewords import words_of
 from tellfew.words import is_telling, one_word, told_by, wrong_pairs
-from tests.things import (a_great_tree, a_machine, a_table, a_three, a_tree, kinds_of, odd_things, some_cubes, some_draws,
+from tests.things import (a_great_tree, a_machine, a_table, a_three, a_tree, kinds_of, odd_things, some_cubes,
+                          some_draws,
                           some_questions, some_tables)
 
 ROOT = os.path.dirname(os.path.dirname(os.path.abspath(__file__)))
@@ -160,7 +168,64 @@ def of_questions():
         asked += [(reads, (machine, "01" * (n // 2) + "1" * (n % 2))), (is_machine, (3, machine_of(question)))]
         for k in range(n + 1):
             asked += [(cut, (question, k)), (words_at, (machine, k)), (words_at, (machine_of(question), k))]
+        asked += [(states, (question,)), (states_holds, (question, states(question))), (summed, (machine,))]
+        asked += [(states_holds, (question, tuple((("0" * k,), ()) for k in range(n + 1)))),
+                  (summing_of, (question, 2))]
+        for summing in (summed(machine), summing_of(question, 3)):
+            asked += [(is_summing, (n, 3, summing)), (is_summing, (2, 2, summing)), (sizes_of, (summing,))]
+            asked += [(sum_cut, (3, summing, k)) for k in (0, n)] + [(worth, (3, summing, "1" * n))]
     return asked
+
+
+def of_findings():
+    asked = []
+    for table in some_tables(44, 6) + [((1, 2), (3, 4))]:
+        depth, tree = fewest(((0, 1), (1, 0)))
+        asked += [(finding_holds, (("tells", table, tree, depth),)),
+                  (finding_holds, (("tells", ((0, 1), (1, 0)), tree, 2),))]
+        asked += [(finding_holds, (("words", table, one_word(table), parted(table)),))]
+        asked += [(finding_holds, (("rank", table, p, ranked(table, 3)),)) for p in (0, 3, 4)]
+        asked += [(finding_holds, (("game", table, fair(table)),)), (finding_holds, (("fair", table, 2, fair(table)),))]
+    for cube in some_cubes(45, 5):
+        asked += [(finding_holds, (("three", cube, said(cube), said_parted(cube)),))]
+    for question in some_questions(46, 5, 4):
+        papers = tuple(ranked(cut(question, k), 2) for k in range(question[0] + 1))
+        asked += [(finding_holds, (("states", question, machine_of(question), states(question)),))]
+        asked += [(finding_holds, (("sums", question, 2, summing_of(question, 2), papers),))]
+        asked += [(finding_holds, (("sums", question, 2, summing_of(question, 2), papers[::-1]),))]
+    return asked
+
+
+def said_by_a_desk(*rows):
+    """What a new desk answers to the rows, in turn."""
+    desk = Desk()
+    return tuple(answer_to((desk.say, (row,))) for row in rows)
+
+
+def told_by_a_stand(*deeds):
+    """What a new stand tells behind each of the deeds."""
+    stand, told_behind = Stand(), []
+    for name, *handed in deeds:
+        refused = answer_to((getattr(stand, name), handed))
+        held = tuple((word, stand.table(word), stand.kept(word), stand.fewest(word)) for word in stand.names())
+        told_behind.append((refused, held, stand.gone(), stand.deeds()))
+    return tuple(told_behind)
+
+
+def of_stands():
+    table, telling = ((1, 2), (3, 4)), ((0, 1), ((1, 2), (3, 4)))
+    deeds = (("put", "b", table), ("put", "ab", table), ("put", "b", table), ("keep", "b", telling),
+             ("keep", "b", telling),
+             ("keep", "b", ((0, 0), ((1, 2),))), ("keep", "b", ((0,), ((1, 2),))), ("more", "b", (1, 2)),
+             ("more", "b", (5, 6)),
+             ("more", "b", ()), ("change", "ab", (0, 1), 9), ("change", "ab", (2, 0), 9), ("drop", "ab"), ("drop", "c"),
+             ("back", 4), ("back", 9), ("put", [], table), ("put", "c", table), ("drop", None), ("back", 0))
+    rows = ("put ab 1 2 / 3 4", "keep ab 0 1 : 1 2 / 3 4", "ask ab 1 0", "few ab", "rank ab 2", "fair ab 1", "gone",
+            "kept ab",
+            "more ab 7 7", "gone", "change ab 0 0 100", "keep ab 0 0 0 : 1 2", "back 1", "fair ab 13", "put c",
+            "drop ab", "few ab")
+    return [(told_by_a_stand, deeds), (said_by_a_desk, rows), (said_by_a_desk, rows[::-1]),
+            (said_by_a_desk, tuple(odd_things()))]
 
 
 def of_anything():
@@ -172,12 +237,16 @@ def of_anything():
         asked += [(fair_holds, (((1, 2), (2, 1)), thing)), (fair_words_holds, (((1, 2), (2, 1)), 1, thing))]
         asked += [(is_cube, (thing,)), (is_three, ((2, 2, 2), thing)), (is_said, ((1, 2, 1), thing))]
         asked += [(said_parted_holds, ((((1,), (2,)),), thing)), (is_question, (thing,)), (is_machine, (2, thing))]
+        asked += [(states_holds, ((1, "01"), thing)), (is_summing, (1, 2, thing)), (finding_holds, (thing,))]
+        asked += [(finding_holds, (("words", thing, thing, thing),)),
+                  (finding_holds, (("sums", thing, 2, thing, thing),))]
     return asked
 
 
 def questions():
     of_two = of_tables() + of_trees() + of_parts() + of_ranks() + of_games() + of_draws()
-    return of_two + of_three() + of_cubes() + of_both() + of_questions() + of_anything()
+    of_more = of_three() + of_cubes() + of_both() + of_questions() + of_findings() + of_stands()
+    return of_two + of_more + of_anything()
 
 
 def answer_to(question):

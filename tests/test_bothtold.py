@@ -131,7 +131,8 @@ class BothDraws(unittest.TestCase):
             draws = both_draws(one, other)
             totals = [sum(weight for weight, _ in some) for some in (one, other, draws)]
             self.assertEqual(totals[2], totals[0] * totals[1])
-            wrong = [wrong_in(one_table, one), wrong_in(other_table, other), wrong_in(both(one_table, other_table), draws)]
+            wrong = [wrong_in(one_table, one), wrong_in(other_table, other),
+                     wrong_in(both(one_table, other_table), draws)]
             for i, j, r, c in pairs_of(sizes):
                 right = (totals[0] - wrong[0][i][j]) * (totals[1] - wrong[1][r][c])
                 check_same(self, totals[2] - wrong[2][i * k + r][j * l + c], right)
@@ -199,7 +200,8 @@ class BothTrees(unittest.TestCase):
         for sizes in MOST_SIZES + [(3, 3, 3, 3)]:
             m, n, k, l = sizes
             for depth in range(7):
-                self.check_told(a_way(depth, m, n, (0, 1, 2, 3, 4, 5, 9)), a_way(6 - depth, k, l, (9, 8, 7, 6, 5, 4, 0)),
+                self.check_told(a_way(depth, m, n, (0, 1, 2, 3, 4, 5, 9)),
+                                a_way(6 - depth, k, l, (9, 8, 7, 6, 5, 4, 0)),
                                 sizes)
 
     def test_tables_of_both_are_told(self):

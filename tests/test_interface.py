@@ -38,10 +38,29 @@ LISTED = {
     "bothtold": {"both_tellings": 2, "both_draws": 2, "both_trees": 3},
     "questions": {"is_question": 1, "cut": 2},
     "machines": {"is_machine": 2, "reads": 2, "machine_of": 1, "words_at": 2},
+    "states": {"states": 1},
+    "statechecks": {"states_holds": 2},
+    "summing": {"is_summing": 3, "worth": 3, "sizes_of": 1, "summed": 1, "sum_cut": 3},
+    "summade": {"summing_of": 2},
+    "findings": {"finding_holds": 1},
+}
+LISTED_CLASSES = {
+    "stands": {"Stand": {"put": 2, "more": 2, "change": 3, "drop": 1, "keep": 2, "back": 1, "names": 0, "table": 1,
+                         "kept": 1,
+                         "fewest": 1, "gone": 0, "deeds": 0}},
+    "desk": {"Desk": {"say": 1}},
 }
 
 
 class Interface(unittest.TestCase):
+
+    def check_taken(self, found, count):
+        """What is found is a function that takes so many arguments by their places."""
+        self.assertTrue(inspect.isfunction(found))
+        parameters = inspect.signature(found).parameters.values()
+        asked = [part for part in parameters if part.default is part.empty]
+        self.assertEqual(len(asked), count)
+        self.assertTrue(all(part.kind in (part.POSITIONAL_ONLY, part.POSITIONAL_OR_KEYWORD) for part in asked))
 
     def test_functions_are_defined_where_they_are_listed(self):
         for name, functions in LISTED.items():
@@ -49,13 +68,21 @@ class Interface(unittest.TestCase):
             for function, count in functions.items():
                 with self.subTest(module=name, function=function):
                     found = getattr(module, function)
-                    self.assertTrue(inspect.isfunction(found))
+                    self.check_taken(found, count)
                     self.assertEqual(found.__module__, "tellfew." + name)
-                    parameters = inspect.signature(found).parameters.values()
-                    asked = [part for part in parameters if part.default is part.empty]
-                    self.assertEqual(len(asked), count)
-                    self.assertTrue(all(part.kind in (part.POSITIONAL_ONLY, part.POSITIONAL_OR_KEYWORD)
-                                        for part in asked))
+
+    def test_classes_are_defined_where_they_are_listed_with_their_methods(self):
+        for name, classes in LISTED_CLASSES.items():
+            module = importlib.import_module("tellfew." + name)
+            for word, methods in classes.items():
+                found = getattr(module, word)
+                self.assertTrue(inspect.isclass(found))
+                self.assertEqual(found.__module__, "tellfew." + name)
+                self.assertIsInstance(found(), found)
+                for method, count in methods.items():
+                    with self.subTest(module=name, method=method):
+                        # One more is the stand, or the desk, itself.
+                        self.check_taken(vars(found)[method], 1 + count)
 
 
 if __name__ == "__main__":

@@ -33,7 +33,7 @@ class IsQuestion(unittest.TestCase):
                 self.check_no_questions([(n, "0" * many), (n, "1" * many)])
 
     def test_other_signs(self):
-        for sign in ("2", "9", "a", " ", "\n", "\t", "-", "O", "l", "/", "~", "."):
+        for sign in ("2", "9", "a", "x", " ", "\n", "\t", "-", "O", "l", "/", "~", "."):
             for at in (0, 3, 7):
                 self.check_no_questions([(3, QUESTION[1][:at] + sign + QUESTION[1][at + 1:])])
         self.check_no_questions([(1, "0 "), (1, " 1"), (1, "0\n"), (1, "01\n"), (2, "0 1 "), (2, "00,1"), (1, "10 ")])
@@ -45,7 +45,8 @@ class IsQuestion(unittest.TestCase):
     def test_other_things(self):
         for thing in ("1", "", None, (), (1,), [1], {}, "01"):
             self.check_no_questions([(thing, "01"), (1, thing)] if thing != "01" else [(thing, "01")])
-        self.check_no_questions([(1, ("0", "1")), (1, ["0", "1"]), (1, (0, 1)), (1, 1), (1, 10), (2, 1010), (1, {0: "0"})])
+        self.check_no_questions([(1, ("0", "1")), (1, ["0", "1"]), (1, (0, 1)), (1, 1), (1, 10), (2, 1010),
+                                 (1, {0: "0"})])
         self.check_no_questions([[3, QUESTION[1]], {0: 3, 1: QUESTION[1]}, "3 01101001", list(QUESTION)])
 
     def test_parts_missing_or_too_many(self):

@@ -82,7 +82,8 @@ class SaidPartedHolds(unittest.TestCase):
         self.check_none_holds([(0, (), ()), (1, (), ()), (0, (), (0,)), (0, (), (0, 0, 0))])
 
     def test_numbers_of_no_y_or_x(self):
-        self.check_none_holds([(0, (0, 3), (0,)), (0, (-1, 0), (0,)), (0, (3,), ()), (0, (-1,), ()), (0, (10 ** 39,), ())])
+        self.check_none_holds([(0, (0, 3), (0,)), (0, (-1, 0), (0,)), (0, (3,), ()), (0, (-1,), ()),
+                               (0, (10 ** 39,), ())])
         self.check_none_holds([(0, (0, 1), (x,)) for x in (3, -1, -2, -3, 10 ** 39)])
 
     def test_too_few_or_too_many_xs(self):
@@ -91,11 +92,13 @@ class SaidPartedHolds(unittest.TestCase):
         self.check_none_holds([(0, (0,), (0,)), (0, (0, 1), ()), (0, (0, 1), (1, 1))])
 
     def test_truths_for_numbers(self):
-        self.check_none_holds([(False, (0, 2), (0,)), (0, (False, 2), (0,)), (0, (0, True), (1,)), (0, (0, 2), (False,)),
+        self.check_none_holds([(False, (0, 2), (0,)), (0, (False, 2), (0,)), (0, (0, True), (1,)),
+                               (0, (0, 2), (False,)),
                                (0, (0, 1), (True,)), (True, (1, 2), (2,)), (0, (True,), ())])
 
     def test_parts_missing_or_too_many(self):
-        self.check_none_holds([(), PAPER[:1], PAPER[:2], PAPER[1:], PAPER + ((),), PAPER[::-1], (PAPER,), PAPER + PAPER])
+        self.check_none_holds([(), PAPER[:1], PAPER[:2], PAPER[1:], PAPER + ((),), PAPER[::-1], (PAPER,),
+                               PAPER + PAPER])
         # A paper of parted rows, without z.
         self.check_none_holds([((0,), ()), ((0, 1), (0,))])
 

@@ -106,7 +106,8 @@ class IsSaid(unittest.TestCase):
         for thing in odd_things() + [nested(0, 26), nested(0, 26, list), nested_dict(0, 26), nested(TELLING, 25)]:
             self.check_no_tellings([with_part(TELLING, way, thing) for way in ((0,), (1,), (1, 1))])
         for thing in (nested(0, 26), nested_dict(1, 26), nested((0, 0), 25, list)):
-            self.check_no_tellings([with_part(TELLING, way, thing) for way in ((0, 2), (0, 1, 1), (1, 0, 1), (1, 0, 1, 1))])
+            self.check_no_tellings([with_part(TELLING, way, thing) for way in ((0, 2), (0, 1, 1), (1, 0, 1),
+                                                                               (1, 0, 1, 1))])
 
 
 class Said(unittest.TestCase):
